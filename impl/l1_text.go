@@ -17,7 +17,6 @@ const (
 	sumModulus = 999983
 )
 
-// NumText returns the decimal representation of n, if n is in -MaxNum..MaxNum.
 func NumText(n int) (string, bool) {
 	if n < -MaxNum || n > MaxNum {
 		return "", false
@@ -25,7 +24,6 @@ func NumText(n int) (string, bool) {
 	return strconv.Itoa(n), true
 }
 
-// ReadNum returns the number whose NumText is s.
 func ReadNum(s string) (int, bool) {
 	n, err := strconv.Atoi(s)
 	if err != nil {
@@ -38,7 +36,6 @@ func ReadNum(s string) (int, bool) {
 	return n, true
 }
 
-// SplitText returns the parts of s between the occurrences of the one-byte separator sign.
 func SplitText(s string, sign string) ([]string, bool) {
 	if len(s) > MaxText || len(sign) != 1 {
 		return []string{}, false
@@ -46,7 +43,6 @@ func SplitText(s string, sign string) ([]string, bool) {
 	return strings.Split(s, sign), true
 }
 
-// JoinTexts returns the elements of l with the one-byte separator sign between them.
 func JoinTexts(l []string, sign string) (string, bool) {
 	if len(l) == 0 || len(sign) != 1 || !joinable(l, sign[0]) {
 		return "", false
@@ -54,8 +50,7 @@ func JoinTexts(l []string, sign string) (string, bool) {
 	return strings.Join(l, sign), true
 }
 
-// joinable reports whether no element of l contains mark and all of them fit into MaxText bytes with a mark between each two.
-// It counts the bytes of an element before it reads them, so that it never reads more than MaxText bytes of a huge argument.
+// joinable counts the bytes of an element before it reads them, so that it reads at most MaxText bytes of a huge argument.
 func joinable(l []string, mark byte) bool {
 	room := MaxText - (len(l) - 1)
 	passed := 0
@@ -75,12 +70,10 @@ elements:
 	return passed == len(l)
 }
 
-// LessText reports whether a precedes b in the lexicographic order by bytes.
 func LessText(a string, b string) bool {
 	return a < b
 }
 
-// SumOf returns the checksum of s.
 func SumOf(s string) (int, bool) {
 	if len(s) > MaxText {
 		return 0, false
@@ -92,7 +85,6 @@ func SumOf(s string) (int, bool) {
 	return sum, true
 }
 
-// SealText returns s with its checksum behind it.
 func SealText(s string) (string, bool) {
 	sum, ok := SumOf(s)
 	if !ok || strings.Contains(s, sealMark) {
@@ -105,7 +97,6 @@ func SealText(s string) (string, bool) {
 	return sealed, true
 }
 
-// OpenText returns the text whose SealText is s.
 func OpenText(s string) (string, bool) {
 	text, _, _ := strings.Cut(s, sealMark)
 	// Sealing again rejects every other spelling of the checksum as well, such as leading zeros.

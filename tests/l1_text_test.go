@@ -10,7 +10,7 @@ import (
 	"loop.example/g00868/impl"
 )
 
-// textsOf returns all texts of at most longest bytes that consist of bytes of the alphabet.
+// textsOf takes the alphabet by bytes, because a part of a text need not be valid UTF-8.
 func textsOf(alphabet string, longest int) []string {
 	all := []string{""}
 	last := all
@@ -27,7 +27,6 @@ func textsOf(alphabet string, longest int) []string {
 	return all
 }
 
-// everyByte holds each of the 256 bytes once.
 func everyByte() string {
 	b := make([]byte, 256)
 	for i := range b {
@@ -36,7 +35,7 @@ func everyByte() string {
 	return string(b)
 }
 
-// plainSum computes the checksum from the text of the document, apart from the package.
+// plainSum follows the document apart from the package, so that a wrong constant in the package shows.
 func plainSum(s string) int {
 	h := uint64(5)
 	for _, c := range []byte(s) {
@@ -379,7 +378,7 @@ func TestP1SealInvalid(t *testing.T) {
 	}
 }
 
-// sealedOfLength returns a text for which the text, the sign and the checksum have just n bytes.
+// sealedOfLength has to search, because the number of digits of a checksum is not known beforehand.
 func sealedOfLength(t *testing.T, n int, digits int) (string, string) {
 	t.Helper()
 	for k := range 100000 {
