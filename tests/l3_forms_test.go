@@ -213,6 +213,38 @@ func withAllOptions(options int, left bool, right bool) impl.Form {
 	return f
 }
 
+// towerOf has the nodes before each node as options of both players, as many as there may be.
+func towerOf(nodes int) impl.Form {
+	f := zeroGame()
+	for i := 1; i < nodes; i++ {
+		var options []int
+		for k := max(0, i-mostOptions); k < i; k++ {
+			options = append(options, k)
+		}
+		f.Nodes = append(f.Nodes, node(options, options))
+	}
+	return f
+}
+
+func ladderOf(nodes int) impl.Form {
+	f := zeroGame()
+	for i := 1; i < nodes; i++ {
+		f.Nodes = append(f.Nodes, node(ints(i-1), ints(i-1)))
+	}
+	return f
+}
+
+func strangeForms() []impl.Form {
+	values := append(extremeInts(), -1, 0, 1, 2)
+	forms := []impl.Form{{}, zeroGame(), chainOf(2), chainOf(mostNodes), chainOf(mostNodes + 1), {Nodes: make([]impl.Node, 200)}}
+	for _, a := range values {
+		for _, b := range values {
+			forms = append(forms, formOf(node(ints(a), ints(b))), formOf(node(nil, nil), node(ints(a, b), nil)), formOf(node(nil, nil), node(nil, ints(0)), node(ints(a), ints(b, a))))
+		}
+	}
+	return forms
+}
+
 // A plainGame is compared by the document's words, game by game and without indices.
 type plainGame struct {
 	left  []*plainGame
@@ -831,23 +863,13 @@ func TestP3LongestText(t *testing.T) {
 }
 
 func TestP3TextsThatDoubleHaveNoText(t *testing.T) {
-	f := zeroGame()
-	for i := range mostNodes - 1 {
-		f.Nodes = append(f.Nodes, node(ints(i), ints(i)))
-	}
+	f := ladderOf(mostNodes)
 	if !impl.GoodForm(f) {
 		t.Error("GoodForm is false")
 	}
 	s, ok := impl.FormText(f)
 	wantNoText(t, "FormText", s, ok)
-	all := zeroGame()
-	for i := 1; i < mostNodes; i++ {
-		var options []int
-		for k := max(0, i-mostOptions); k < i; k++ {
-			options = append(options, k)
-		}
-		all.Nodes = append(all.Nodes, node(options, options))
-	}
+	all := towerOf(mostNodes)
 	if !impl.GoodForm(all) {
 		t.Error("GoodForm is false for many options")
 	}
@@ -998,13 +1020,7 @@ func TestP30ListsOfOneFormShareNoMemory(t *testing.T) {
 }
 
 func TestP30FormFunctionsReturnForAll(t *testing.T) {
-	values := append(extremeInts(), -1, 0, 1, 2)
-	forms := []impl.Form{{}, zeroGame(), chainOf(2), chainOf(mostNodes), chainOf(mostNodes + 1), {Nodes: make([]impl.Node, 200)}}
-	for _, a := range values {
-		for _, b := range values {
-			forms = append(forms, formOf(node(ints(a), ints(b))), formOf(node(nil, nil), node(ints(a, b), nil)), formOf(node(nil, nil), node(nil, ints(0)), node(ints(a), ints(b, a))))
-		}
-	}
+	values, forms := append(extremeInts(), -1, 0, 1, 2), strangeForms()
 	for i, f := range forms {
 		func() {
 			defer noPanic(t, fmt.Sprint(f))
@@ -1026,14 +1042,7 @@ func TestP30FormFunctionsReturnForAll(t *testing.T) {
 }
 
 func TestP30LargestListsOfForms(t *testing.T) {
-	big := zeroGame()
-	for i := 1; i < mostNodes; i++ {
-		var options []int
-		for k := max(0, i-mostOptions); k < i; k++ {
-			options = append(options, k)
-		}
-		big.Nodes = append(big.Nodes, node(options, options))
-	}
+	big := towerOf(mostNodes)
 	hundred := slices.Repeat([]impl.Form{big}, 100)
 	f, ok := impl.MakeForm(hundred, hundred)
 	wantNoForm(t, "MakeForm of the largest lists", f, ok)
