@@ -1002,19 +1002,30 @@ func TestP30FormsShareNoMemory(t *testing.T) {
 	}
 }
 
-// The lists of the nodes of one result must not lie in each other's spare memory.
+// wantOwnLists fails if the lists of the nodes of f lie in each other's memory, or in each other's spare memory. It spoils f.
+func wantOwnLists(t *testing.T, name string, f impl.Form) {
+	t.Helper()
+	want := copied(f)
+	for _, n := range f.Nodes {
+		_ = append(append(n.Left, -1), -1)
+		_ = append(append(n.Right, -1), -1)
+	}
+	wantForm(t, name+" after its lists were lengthened", f, true, want)
+	for k := range f.Nodes {
+		want = copied(f)
+		clear(f.Nodes[k].Left)
+		want.Nodes[k].Left = f.Nodes[k].Left
+		wantForm(t, name+" after one of its lists was changed", f, true, want)
+	}
+}
+
 func TestP30ListsOfOneFormShareNoMemory(t *testing.T) {
 	for _, g := range append(plainDay2(), plainMixed(30)...) {
-		want := plainForm(g)
 		built, _ := impl.MakeForm(plainForms(g.left), plainForms(g.right))
-		part, _ := impl.PartAt(want, len(want.Nodes)-1)
+		part, _ := impl.PartAt(built, len(built.Nodes)-1)
 		text, _ := impl.ReadForm(plainFormText(g))
 		for _, f := range []impl.Form{built, part, text} {
-			for _, n := range f.Nodes {
-				_ = append(append(n.Left, -1), -1)
-				_ = append(append(n.Right, -1), -1)
-			}
-			wantForm(t, "a form after its lists were lengthened", f, true, want)
+			wantOwnLists(t, "a form", f)
 		}
 	}
 }
