@@ -74,18 +74,41 @@ func (b builder) build(t *testing.T, x nus) (impl.Form, bool) {
 	return f, ok
 }
 
-// A scribe names the canonical games of a gallery by the document's words.
+// A scribe names the canonical games of a gallery by the document's words, without forms and limits of games.
 type scribe struct {
 	*gallery
-	names map[int]string
+	names  map[int]string
+	plains map[int]*plainGame
 }
 
 func newScribe() *scribe {
-	return &scribe{gallery: newGallery(), names: map[int]string{}}
+	return &scribe{gallery: newGallery(), names: map[int]string{}, plains: map[int]*plainGame{}}
+}
+
+// plain makes one game of each number, because plainCompare knows at once that a game is identical to itself.
+func (s *scribe) plain(a int) *plainGame {
+	if g, found := s.plains[a]; found {
+		return g
+	}
+	var lists [2][]*plainGame
+	for side, options := range s.games[a] {
+		for _, option := range options {
+			lists[side] = append(lists[side], s.plain(option))
+		}
+	}
+	s.plains[a] = plainOf(lists[0], lists[1])
+	return s.plains[a]
+}
+
+func (s *scribe) inOrder(options []int) []int {
+	return slices.SortedFunc(slices.Values(options), func(a, b int) int { return plainCompare(s.plain(a), s.plain(b)) })
 }
 
 // nus takes away each number that is a part of a canonical game a.
 func (s *scribe) nus(a int) (nus, bool) {
+	if !s.fits(a) {
+		return nus{}, false
+	}
 	for _, part := range s.parts(a) {
 		d, is := s.values[part]
 		if !is {
@@ -102,16 +125,14 @@ func (s *scribe) nus(a int) (nus, bool) {
 }
 
 // name stops at a length that no name may have.
-func (s *scribe) name(canon impl.Form) string {
-	a := s.read(canon)
+func (s *scribe) name(a int) string {
 	if name, found := s.names[a]; found {
 		return name
 	}
 	var lists []string
-	left, right, _ := impl.OptionsOf(canon)
-	for _, options := range [][]impl.Form{left, right} {
+	for _, options := range s.games[a] {
 		var names []string
-		for _, option := range options {
+		for _, option := range s.inOrder(options) {
 			names = append(names, s.name(option))
 		}
 		lists = append(lists, strings.Join(names, ","))
@@ -124,7 +145,7 @@ func (s *scribe) name(canon impl.Form) string {
 	if x, is := s.nus(a); is {
 		name = x.name()
 	}
-	s.names[a] = name[:min(len(name), mostName+1)]
+	s.names[a] = name[:min(len(name), mostName+9)]
 	return s.names[a]
 }
 
@@ -388,18 +409,20 @@ func wantNoNusForm(t *testing.T, d impl.Dyadic, n int, star int) {
 }
 
 // wantNamed checks all functions with a game, and counts the kinds of names.
-func (s *scribe) wantNamed(t *testing.T, label string, f impl.Form, counts map[string]int) {
+func (s *scribe) wantNamed(t *testing.T, label string, f impl.Form, counts map[string]int) string {
 	t.Helper()
+	a := s.canon(s.read(f))
+	name := s.name(a)
+	games := map[string]impl.Form{label: f}
 	canon, ok := impl.CanonOf(f)
-	if !ok {
-		wantNoName(t, label, f)
-		wantNoNus(t, label, f)
-		counts["none"]++
-		return
+	s.want(t, "CanonOf "+label, canon, ok, a)
+	if ok {
+		games[label+" in canonical form"] = canon
+	} else {
+		counts["wide"]++
 	}
-	name := s.name(canon)
-	for kind, g := range map[string]impl.Form{label: f, label + " in canonical form": canon} {
-		if x, is := s.nus(s.read(canon)); is {
+	for kind, g := range games {
+		if x, is := s.nus(a); is {
 			wantNus(t, kind, g, x)
 			counts["nus"]++
 		} else {
@@ -413,11 +436,16 @@ func (s *scribe) wantNamed(t *testing.T, label string, f impl.Form, counts map[s
 			wantName(t, kind, g, name)
 		}
 	}
-	if len(name) <= mostName && openAtOnce(name) <= mostOpen {
+	switch {
+	case len(name) > mostName:
+	case !ok || openAtOnce(name) > mostOpen:
+		wantNothingSaid(t, name)
+	default:
 		g, ok := impl.ReadName(name)
 		wantForm(t, "ReadName of the name of "+label, g, ok, canon)
 		wantReading(t, name)
 	}
+	return name
 }
 
 func TestP9Limits(t *testing.T) {
@@ -1766,26 +1794,236 @@ func TestP9MostNodesAndOptions(t *testing.T) {
 	}
 }
 
-// A valid game may have a canonical form that is beyond the limits, and so no name.
-func TestP9GamesWithoutCanonicalForms(t *testing.T) {
-	t.Parallel()
-	for last := 10; last <= mostUps; last++ {
-		f := wideSmall(t, last)
-		wantNoCanon(t, "of a wide game", f)
-		for _, g := range []impl.Form{f, negated(t, f)} {
-			wantNoName(t, "a wide game", g)
-			wantNoNus(t, "a wide game", g)
+// between puts the switches of 1 to last between the stars in the order of chapter 3, because a switch is born a day later than its number.
+func between(last int) string {
+	var names []string
+	for day := range max(mostStar, last+1) + 1 {
+		if day <= mostStar {
+			names = append(names, nus{star: day}.name())
+		}
+		if 2 <= day && day <= last+1 {
+			names = append(names, fmt.Sprint("~", day-1))
 		}
 	}
+	return strings.Join(names, ",")
+}
+
+// wantWide checks a game whose name is told although its canonical form may have no valid form.
+func wantWide(t *testing.T, f impl.Form, name string, fits bool) {
+	t.Helper()
+	canon, ok := impl.CanonOf(f)
+	wantName(t, "the game "+name, f, name)
+	wantNoNus(t, "the game "+name, f)
+	if fits {
+		wantForm(t, "CanonOf the game "+name, canon, ok, said(t, name))
+		wantSaid(t, name, name)
+		return
+	}
+	wantNoForm(t, "CanonOf the game "+name, canon, ok)
+	wantNothingSaid(t, name)
+	wantReading(t, name)
+}
+
+func TestP9MoreOptionsThanAFormMayHave(t *testing.T) {
+	t.Parallel()
+	for switches := 6; switches <= mostOptions; switches++ {
+		f, _, _ := wide(t, mostStar+1, switches)
+		g := negated(t, f)
+		options, fits := between(switches), mostStar+1+switches <= mostOptions
+		left, right := "{"+options+"|-25}", "{25|"+options+"}"
+		above, below := []impl.Form{integer(26)}, []impl.Form{integer(-26)}
+		wantWide(t, f, left, fits)
+		wantWide(t, g, right, fits)
+		wantWide(t, made(t, []impl.Form{f}, below), "{"+left+"|-26}", fits)
+		wantWide(t, made(t, above, []impl.Form{f}), "{26|"+left+"}", fits)
+		wantWide(t, made(t, []impl.Form{g}, below), "{"+right+"|-26}", fits)
+		wantWide(t, made(t, above, []impl.Form{g}), "{26|"+right+"}", fits)
+		wantWide(t, made(t, []impl.Form{integer(27)}, []impl.Form{made(t, above, []impl.Form{f})}), "{27|{26|"+left+"}}", fits)
+		wantWide(t, made(t, []impl.Form{made(t, []impl.Form{g}, below)}, []impl.Form{integer(-27)}), "{{"+right+"|-26}|-27}", fits)
+		// These have no such subposition in canonical form.
+		wantName(t, "27 beside a wide game", made(t, []impl.Form{f, integer(26)}, nil), "27")
+		wantName(t, "~26 beside a wide game", made(t, []impl.Form{f, integer(26)}, below), "~26")
+		wantName(t, "0 beside a wide game", made(t, []impl.Form{made(t, below, []impl.Form{made(t, nil, []impl.Form{f})})}, nil), "0")
+	}
+	// Stars beyond *15 have names of their options, which are too long.
 	f, _, _ := wide(t, 23, mostOptions)
 	wantNoName(t, "a wide game", f)
 	wantNoNus(t, "a wide game", f)
-	text := "{0,*,*2,*3,*4,*5,*6,*7,*8,*9,*10,*11,*12,*13,*14,*15,{^12|{{^|v},{^2|v2},{^3|v3},{^4|v4},{^5|v5},{^6|v6},{^7|v7},{^8|v8},{^9|v9},{^10|v10},{^11|v11},{^12|v12}|v12}}|v12}"
-	wantNothingSaid(t, text)
-	wantReading(t, text)
-	wantReading(t, strings.Replace(text, ",{^12|v12}", "", 1))
-	if !wantReading(t, strings.Replace(text, ",{^10|v10},{^11|v11},{^12|v12}", "", 1)) {
-		t.Error("a game of fewer options says nothing")
+}
+
+func TestP9KnownWideGames(t *testing.T) {
+	t.Parallel()
+	options := strings.Fields("0 * *2 *3 *4 *5 *6 *7 *8 *9 *10 *11 *12 *13 *14 *15 ~1 ~2 ~3 ~4 ~5 ~6 ~7 {10|{~8,~9|-12}}")
+	f := made(t, saidAll(t, options...), saidAll(t, "-10"))
+	if len(f.Nodes) != 50 {
+		t.Error("the game has", len(f.Nodes), "nodes")
+	}
+	left := "{0,*,*2,~1,*3,~2,*4,~3,*5,~4,*6,~5,*7,~6,*8,~7,*9,~8,*10,~9,*11,*12,*13,*14,*15|-10}"
+	right := "{10|0,*,*2,~1,*3,~2,*4,~3,*5,~4,*6,~5,*7,~6,*8,~7,*9,~8,*10,~9,*11,*12,*13,*14,*15}"
+	wantWide(t, f, left, false)
+	wantWide(t, negated(t, f), right, false)
+	wantWide(t, made(t, saidAll(t, "5"), []impl.Form{f}), "{5|"+left+"}", false)
+	wantWide(t, made(t, []impl.Form{negated(t, f)}, saidAll(t, "-5")), "{"+right+"|-5}", false)
+	wantWide(t, made(t, saidAll(t, options[:23]...), saidAll(t, "-10")), "{0,*,*2,~1,*3,~2,*4,~3,*5,~4,*6,~5,*7,~6,*8,~7,*9,*10,*11,*12,*13,*14,*15|-10}", true)
+	ups := "{0,*,*2,*3,*4,{^2|v2},*5,{^3|v3},*6,{^4|v4},*7,{^5|v5},*8,{^6|v6},*9,{^7|v7},*10,{^8|v8},*11,{^9|v9},*12,{^10|v10},*13,*14,*15|v12}"
+	wantWide(t, wideSmall(t, 10), ups, false)
+	wantNothingSaid(t, "{"+strings.Join(options, ",")+"|-10}")
+	wantNothingSaid(t, "{"+strings.Join(options[:23], ",")+",~8,~9|-10}")
+	wantSaid(t, "{"+strings.Join(options[:23], ",")+",~8|-10}", strings.Replace(left, ",~9", "", 1))
+	wantSaid(t, "{26,{"+strings.Join(options, ",")+"|-10}|}", "27")
+	wantSaid(t, "{26,{"+strings.Join(options, ",")+"|-10}|-26}", "~26")
+}
+
+func saidAll(t *testing.T, texts ...string) []impl.Form {
+	t.Helper()
+	var l []impl.Form
+	for _, s := range texts {
+		l = append(l, said(t, s))
+	}
+	return l
+}
+
+func allNegated(t *testing.T, l []impl.Form) []impl.Form {
+	t.Helper()
+	var all []impl.Form
+	for _, f := range l {
+		all = append(all, negated(t, f))
+	}
+	return all
+}
+
+// folded has no more left options than a valid form may have, because those that are too many stand behind reversible ones.
+func folded(t *testing.T, left []impl.Form, low int) []impl.Form {
+	t.Helper()
+	if len(left) <= mostOptions {
+		return left
+	}
+	kept := mostOptions - (len(left)-2)/(mostOptions-1)
+	options := slices.Clone(left[:kept])
+	for behind := range slices.Chunk(left[kept:], mostOptions) {
+		reply := made(t, behind, []impl.Form{integer(low)})
+		options = append(options, made(t, []impl.Form{integer(-low)}, []impl.Form{reply}))
+	}
+	return options
+}
+
+func overfull(t *testing.T, left []impl.Form, right []impl.Form, end int) impl.Form {
+	t.Helper()
+	return made(t, folded(t, left, -end), allNegated(t, folded(t, allNegated(t, right), -end)))
+}
+
+// hots has games around 0 of which none is comparable with another, first stars, and then four games of each size.
+func hots(t *testing.T, stars int, sizes int) []impl.Form {
+	t.Helper()
+	var texts []string
+	for n := range stars {
+		texts = append(texts, nus{star: n}.name())
+	}
+	for n := 1; n <= sizes; n++ {
+		for _, s := range []string{"~?", "{?*|-?*}", "{?*|-?}", "{?|-?*}"} {
+			texts = append(texts, strings.ReplaceAll(s, "?", fmt.Sprint(n)))
+		}
+	}
+	return saidAll(t, texts...)
+}
+
+func TestP9LongestNamesOfWideGames(t *testing.T) {
+	t.Parallel()
+	s, counts := newScribe(), map[string]int{}
+	lengths := map[string]map[int]int{"left": {}, "right": {}, "subposition": {}}
+	check := func(place string, f impl.Form) {
+		name := s.name(s.canon(s.read(f)))
+		if len(name) < mostName-3 {
+			return
+		}
+		s.wantNamed(t, fmt.Sprintf("a game that is wide at the %s %.99s", place, name), f, counts)
+		lengths[place][len(name)]++
+	}
+	for stars := 1; stars <= mostStar+1; stars++ {
+		options := hots(t, stars, 9)
+		for _, low := range strings.Fields("-10 -10* -10*2 -10^*2") {
+			for count := mostOptions + 1; count <= len(options); count++ {
+				f := overfull(t, options[:count], saidAll(t, low), 11)
+				if length := len(s.name(s.canon(s.read(f)))); length < mostName-10 || length > mostName+3 {
+					continue
+				}
+				check("left", f)
+				check("right", negated(t, f))
+				check("subposition", made(t, saidAll(t, "11"), []impl.Form{f}))
+				check("subposition", made(t, []impl.Form{f}, saidAll(t, "-11")))
+			}
+		}
+	}
+	for place, all := range lengths {
+		for _, length := range ints(mostName-2, mostName-1, mostName, mostName+1) {
+			if all[length] == 0 {
+				t.Error("no name of", length, "bytes of a game that is wide at the", place, all)
+			}
+		}
+	}
+	if counts["wide"] < 60 || counts["long"] < 30 || counts["wide"] < counts["{"] {
+		t.Error("too few games of a kind", counts)
+	}
+}
+
+func TestP9NamesOfWideGames(t *testing.T) {
+	t.Parallel()
+	s, counts := newScribe(), map[string]int{}
+	name := func(label string, f impl.Form) {
+		s.wantNamed(t, label, f, counts)
+		s.wantNamed(t, "the negative of "+label, negated(t, f), counts)
+	}
+	for last := 7; last <= mostUps; last++ {
+		f, label := wideSmall(t, last), fmt.Sprint("a wide game to ", last)
+		name(label, f)
+		name("a game above "+label, made(t, []impl.Form{f}, []impl.Form{zeroGame()}))
+		name("-1 beside "+label, made(t, []impl.Form{f}, []impl.Form{integer(-1)}))
+		name(label+" and 1", made(t, []impl.Form{f, integer(1)}, []impl.Form{integer(-1)}))
+		name("a game above "+label+" and its negative", made(t, []impl.Form{f}, []impl.Form{negated(t, f)}))
+	}
+	for stars := range mostStar + 2 {
+		for sizes := 3; sizes <= 10; sizes++ {
+			if options := hots(t, stars, sizes); len(options) > mostOptions {
+				name(fmt.Sprintf("a game of %d stars and %d sizes", stars, sizes), overfull(t, options, saidAll(t, "-12"), 12))
+			}
+		}
+	}
+	f, g := overfull(t, hots(t, 16, 3), saidAll(t, "-12"), 12), overfull(t, hots(t, 13, 3), saidAll(t, "-11"), 12)
+	name("two wide games on one side", made(t, []impl.Form{made(t, saidAll(t, "16"), []impl.Form{f}), made(t, saidAll(t, "15"), []impl.Form{g})}, saidAll(t, "-17")))
+	name("one wide game at two places", made(t, []impl.Form{made(t, saidAll(t, "15"), []impl.Form{f}), made(t, saidAll(t, "{16|14}"), []impl.Form{f})}, saidAll(t, "-17")))
+	name("a wide game behind a wide game", overfull(t, append(hots(t, 16, 3), made(t, saidAll(t, "13"), []impl.Form{f})), saidAll(t, "-14"), 15))
+	if counts["wide"] < 200 || counts["long"] < 20 || counts["wide"]-counts["long"] < 150 {
+		t.Error("too few games of a kind", counts)
+	}
+}
+
+// These are wide on none, one or both of their sides.
+func TestP9GamesOfTwoWideSides(t *testing.T) {
+	t.Parallel()
+	s, counts := newScribe(), map[string]int{}
+	left := hots(t, mostStar+1, 3)
+	var right []impl.Form
+	for _, option := range left {
+		f, ok := impl.PlusNumber(option, dyadic(-6, 0))
+		if !ok {
+			t.Fatal("no sum of an option and a number")
+		}
+		right = append(right, f)
+	}
+	for lefts := 23; lefts <= 26; lefts++ {
+		for rights := 23; rights <= 26; rights++ {
+			f, label := overfull(t, left[:lefts], right[:rights], 16), fmt.Sprintf("a game of %d and %d options", lefts, rights)
+			name := s.wantNamed(t, label, f, counts)
+			s.wantNamed(t, "the negative of "+label, negated(t, f), counts)
+			if len(name) > mostName || strings.Count(name, ",") != lefts+rights-2 {
+				t.Errorf("the name of %s is %q", label, name)
+			}
+			_, ok := impl.CanonOf(f)
+			wantBool(t, "CanonOf "+label, ok, true, lefts <= mostOptions && rights <= mostOptions)
+		}
+	}
+	if counts["wide"] != 24 {
+		t.Error("too few games of a kind", counts)
 	}
 }
 
@@ -1863,7 +2101,8 @@ func gamesOfNames(t *testing.T) []impl.Form {
 	for _, s := range phrases() {
 		l = append(l, said(t, s))
 	}
-	return l
+	f := overfull(t, hots(t, mostStar+1, 3), saidAll(t, "-5"), 6)
+	return append(l, f, negated(t, f), made(t, saidAll(t, "6"), []impl.Form{f}))
 }
 
 func TestP30NamesModifyNoArgument(t *testing.T) {
@@ -1943,6 +2182,11 @@ func TestP30NamesOfLargestGames(t *testing.T) {
 	forms := append(longest(), ladderOf(mostNodes-1), wideSmall(t, mostUps))
 	for seed := range 20 {
 		forms = append(forms, tangleOf(mostNodes, mostOptions+1, seed+1), tangleOf(mostNodes, 2+seed, seed+1), tallOf(60, 1+seed, seed+1))
+	}
+	options := hots(t, mostStar+1, 5)
+	for high := 6; high <= 12; high++ {
+		f := overfull(t, options, []impl.Form{integer(-high)}, high)
+		forms, options = append(forms, f, negated(t, f)), append(options, made(t, []impl.Form{integer(high)}, []impl.Form{f}))
 	}
 	inTime(t, "the names of the largest games", func() {
 		for i, f := range forms {
